@@ -18,6 +18,7 @@ var (
 	errEscape    = errors.New("no escape of this kind")
 	errSurrogate = errors.New("a surrogate without its other half")
 	errTwice     = errors.New("the key stands there twice")
+	errInside    = errors.New("the reading itself went wrong")
 )
 
 // Fault says that a text is no JSON of this kind: how many bytes were read when it showed, and why.

@@ -20,17 +20,12 @@ func Parse(text string) (v Value, err error) {
 	if err := CheckUTF8(text); err != nil {
 		return nil, err
 	}
+	r := &reader{text: text}
 	defer func() {
-		switch thrown := recover().(type) {
-		case nil:
-		case *Fault:
-			v, err = nil, thrown
-		default:
-			// No fault of the text: it must not be told as one.
-			panic(thrown)
+		if thrown := recover(); thrown != nil {
+			v, err = nil, r.caught(thrown)
 		}
 	}()
-	r := &reader{text: text}
 	v = r.value()
 	r.blanks()
 	if r.at < len(r.text) {
@@ -41,6 +36,14 @@ func Parse(text string) (v Value, err error) {
 
 func (r *reader) fault(cause error) *Fault {
 	return &Fault{At: r.at, Cause: cause}
+}
+
+// caught is what Parse answers to a panic: no call of the program may panic, so one that is no fault of the text becomes a Fault too, with a cause that tells it apart.
+func (r *reader) caught(thrown any) *Fault {
+	if fault, ok := thrown.(*Fault); ok {
+		return fault
+	}
+	return r.fault(errInside)
 }
 
 // next is the byte that comes, or 0 at the end: no sign of JSON begins with that byte.

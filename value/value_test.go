@@ -32,6 +32,19 @@ func TestParseTellsWhy(t *testing.T) {
 	}
 }
 
+func TestEveryPanicIsCaught(t *testing.T) {
+	r := &reader{text: "abc", at: 2}
+	own := &Fault{At: 1, Cause: errTwice}
+	if got := r.caught(own); got != own {
+		t.Errorf("%v", got)
+	}
+	for _, thrown := range []any{"x", errTwice, 1} {
+		if got := r.caught(thrown); got.At != 2 || got.Cause != errInside {
+			t.Errorf("caught(%v) = %v", thrown, got)
+		}
+	}
+}
+
 func TestFaultTellsTheByte(t *testing.T) {
 	_, err := Parse("[1,\t2,x]")
 	if err == nil || err.Error() != "at byte 6: another sign must stand here" {
