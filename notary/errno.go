@@ -8,13 +8,38 @@ import (
 )
 
 var (
-	errLong   = errors.New("the text is too long")
-	errObject = errors.New("the value is no object")
+	errLong      = errors.New("the text is too long")
+	errObject    = errors.New("the value is no object")
+	errSignature = errors.New("a signature is missing or wrong")
+
+	errKind  = errors.New("not there, or of another kind")
+	errName  = errors.New("no name")
+	errBelow = errors.New("a number below 0")
+	errCount = errors.New("too few or too many members")
+	errBoth  = errors.New("a name in both lists of keys")
 )
+
+// memberFault says of which member something is wrong.
+type memberFault struct {
+	member string
+	cause  error
+}
+
+func (f *memberFault) Error() string { return f.member + ": " + f.cause.Error() }
+
+func (f *memberFault) Unwrap() error { return f.cause }
+
+// documentFault says that an object is no document of keys, and why.
+type documentFault struct{ cause error }
+
+func (f *documentFault) Error() string { return "no document of keys: " + f.cause.Error() }
+
+func (f *documentFault) Unwrap() error { return f.cause }
 
 // errno is the one place where an error of the inside becomes a number.
 func errno(err error) api.Errno {
 	var fault *value.Fault
+	var noDocument *documentFault
 	switch {
 	case err == nil:
 		return api.OK
@@ -22,7 +47,11 @@ func errno(err error) api.Errno {
 		return api.ErrLong
 	case errors.As(err, &fault):
 		return api.ErrJSON
-	default:
+	case errors.Is(err, errObject):
 		return api.ErrObject
+	case errors.As(err, &noDocument):
+		return api.ErrDocument
+	default:
+		return api.ErrSignature
 	}
 }

@@ -19,7 +19,7 @@ func TestErrnoFindsWhatIsWrapped(t *testing.T) {
 	for _, c := range []struct {
 		err  error
 		want api.Errno
-	}{{errLong, api.ErrLong}, {fault, api.ErrJSON}, {&value.Fault{Cause: errors.New("x")}, api.ErrJSON}, {errObject, api.ErrObject}} {
+	}{{errLong, api.ErrLong}, {fault, api.ErrJSON}, {&value.Fault{Cause: errors.New("x")}, api.ErrJSON}, {errObject, api.ErrObject}, {&documentFault{errKind}, api.ErrDocument}, {errSignature, api.ErrSignature}, {&memberFault{"a", errSignature}, api.ErrSignature}} {
 		if got := errno(c.err); got != c.want {
 			t.Errorf("errno(%v) = %d, want %d", c.err, got, c.want)
 		}
@@ -29,5 +29,27 @@ func TestErrnoFindsWhatIsWrapped(t *testing.T) {
 	}
 	if got := errno(nil); got != api.OK {
 		t.Errorf("errno(nil) = %d", got)
+	}
+}
+
+func TestReadingTellsWhy(t *testing.T) {
+	for _, c := range []struct {
+		old, now string
+		why      error
+		tells    string
+	}{
+		{`"s"`, "1", errKind, "no document of keys: server_name: not there, or of another kind"},
+		{`"s"`, `""`, errName, "no document of keys: server_name: no name"},
+		{":5", ":-5", errBelow, "no document of keys: valid_until_ts: a number below 0"},
+		{`"a":{"key":"K"}`, "", errCount, "no document of keys: verify_keys: too few or too many members"},
+		{`"b"`, `""`, errName, "no document of keys: old_verify_keys: no name"},
+		{`"b"`, `"a"`, errBoth, "no document of keys: a: a name in both lists of keys"},
+		{":3", ":null", errKind, "no document of keys: b: expired_ts: not there, or of another kind"},
+		{":5", ":6", errSignature, "a: a signature is missing or wrong"},
+	} {
+		_, err := readDocument(changed(t, c.old, c.now))
+		if !errors.Is(err, c.why) || err.Error() != c.tells {
+			t.Errorf("%q: %v, want %q", c.now, err, c.tells)
+		}
 	}
 }

@@ -21,7 +21,7 @@ func Message(text string) (string, api.Errno) {
 	if err != nil {
 		return "", errno(err)
 	}
-	return value.Canon(object.Without("signatures", "unsigned")), api.OK
+	return messageOf(object), api.OK
 }
 
 // Signed puts a signature into an object (P5).
@@ -60,6 +60,10 @@ func readObject(text string) (value.Object, error) {
 		return object, nil
 	}
 	return nil, errObject
+}
+
+func messageOf(object value.Object) string {
+	return value.Canon(object.Without("signatures", "unsigned"))
 }
 
 func withSignature(object value.Object, server, id, sig string) (value.Object, error) {

@@ -109,7 +109,7 @@ func oracleString(text string) string {
 	return `"` + out.String() + `"`
 }
 
-// checkText holds every call of a text against the oracle (P1, P3, P4, P5).
+// checkText holds every call of a text against the oracle (P1, P3, P4, P5, P7).
 func checkText(t *testing.T, text string) {
 	t.Helper()
 	want, code := oracle(text)
@@ -135,6 +135,7 @@ func checkText(t *testing.T, text string) {
 		wantMessage(t, signed, message, api.OK)
 		wantSigned(t, signed, "s", "k", "x", signed, api.OK)
 	}
+	checkRead(t, text)
 }
 
 func seeds() []string {
