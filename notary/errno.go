@@ -11,6 +11,8 @@ var (
 	errLong      = errors.New("the text is too long")
 	errObject    = errors.New("the value is no object")
 	errSignature = errors.New("a signature is missing or wrong")
+	errConflict  = errors.New("the name is known with another key")
+	errUnknown   = errors.New("nothing is known of the server")
 
 	errKind  = errors.New("not there, or of another kind")
 	errName  = errors.New("no name")
@@ -51,6 +53,10 @@ func errno(err error) api.Errno {
 		return api.ErrObject
 	case errors.As(err, &noDocument):
 		return api.ErrDocument
+	case errors.Is(err, errConflict):
+		return api.ErrConflict
+	case errors.Is(err, errUnknown):
+		return api.ErrUnknown
 	default:
 		return api.ErrSignature
 	}

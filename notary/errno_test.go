@@ -19,7 +19,7 @@ func TestErrnoFindsWhatIsWrapped(t *testing.T) {
 	for _, c := range []struct {
 		err  error
 		want api.Errno
-	}{{errLong, api.ErrLong}, {fault, api.ErrJSON}, {&value.Fault{Cause: errors.New("x")}, api.ErrJSON}, {errObject, api.ErrObject}, {&documentFault{errKind}, api.ErrDocument}, {errSignature, api.ErrSignature}, {&memberFault{"a", errSignature}, api.ErrSignature}} {
+	}{{errLong, api.ErrLong}, {fault, api.ErrJSON}, {&value.Fault{Cause: errors.New("x")}, api.ErrJSON}, {errObject, api.ErrObject}, {&documentFault{errKind}, api.ErrDocument}, {errSignature, api.ErrSignature}, {&memberFault{"a", errSignature}, api.ErrSignature}, {errConflict, api.ErrConflict}, {&memberFault{"a", errConflict}, api.ErrConflict}, {errUnknown, api.ErrUnknown}} {
 		if got := errno(c.err); got != c.want {
 			t.Errorf("errno(%v) = %d, want %d", c.err, got, c.want)
 		}
@@ -51,5 +51,20 @@ func TestReadingTellsWhy(t *testing.T) {
 		if !errors.Is(err, c.why) || err.Error() != c.tells {
 			t.Errorf("%q: %v, want %q", c.now, err, c.tells)
 		}
+	}
+}
+
+func TestLearningTellsWhy(t *testing.T) {
+	k := newKnown()
+	document, err := readDocument(exampleDocument)
+	if err != nil || k.takeIn(document, exampleDocument, 0) != nil {
+		t.Fatalf("the example is not taken in: %v", err)
+	}
+	document.Keys[1].Key = "X"
+	if err := k.takeIn(document, "other", 0); !errors.Is(err, errConflict) || err.Error() != "k1: the name is known with another key" {
+		t.Errorf("%v", err)
+	}
+	if text, err := k.lastDocument("t"); !errors.Is(err, errUnknown) || text != "" {
+		t.Errorf("%q, %v", text, err)
 	}
 }

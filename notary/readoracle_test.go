@@ -76,6 +76,9 @@ func checkRead(t *testing.T, text string) {
 	if got, e := Read(text); e != code || !reflect.DeepEqual(got, want) {
 		t.Fatalf("Read(%q) = %+v, %d, want %+v, %d", text, got, e, want, code)
 	}
+	if e := New("me", "mine", "secret", nil).Learn(text, 0); e != code {
+		t.Fatalf("Learn(%q, 0) = %d, want %d", text, e, code)
+	}
 }
 
 // documents makes random texts that are documents of keys, or nearly so: slips of a hundred choices are made wrong.
