@@ -12,13 +12,16 @@ var (
 	errObject    = errors.New("the value is no object")
 	errSignature = errors.New("a signature is missing or wrong")
 	errConflict  = errors.New("the name is known with another key")
-	errUnknown   = errors.New("nothing is known of the server")
+	errUnknown   = errors.New("what is asked for is not known")
 
 	errKind  = errors.New("not there, or of another kind")
 	errName  = errors.New("no name")
 	errBelow = errors.New("a number below 0")
 	errCount = errors.New("too few or too many members")
 	errBoth  = errors.New("a name in both lists of keys")
+	errOther = errors.New("of another server")
+
+	errFails = errors.New("the source fails")
 )
 
 // memberFault says of which member something is wrong.
@@ -38,10 +41,37 @@ func (f *documentFault) Error() string { return "no document of keys: " + f.caus
 
 func (f *documentFault) Unwrap() error { return f.cause }
 
+// eventFault says that an object is no event, and why.
+type eventFault struct{ cause error }
+
+func (f *eventFault) Error() string { return "no event: " + f.cause.Error() }
+
+func (f *eventFault) Unwrap() error { return f.cause }
+
+// serverFault says with which server's part of an event something is wrong.
+type serverFault struct {
+	server string
+	cause  error
+}
+
+func (f *serverFault) Error() string { return "the server " + f.server + ": " + f.cause.Error() }
+
+func (f *serverFault) Unwrap() error { return f.cause }
+
+// outcome tells the server too, where the fault is one server's.
+func outcome(err error) api.Outcome {
+	var fault *serverFault
+	if errors.As(err, &fault) {
+		return api.Outcome{Code: errno(err), Server: fault.server}
+	}
+	return api.Outcome{Code: errno(err)}
+}
+
 // errno is the one place where an error of the inside becomes a number.
 func errno(err error) api.Errno {
 	var fault *value.Fault
 	var noDocument *documentFault
+	var noEvent *eventFault
 	switch {
 	case err == nil:
 		return api.OK
@@ -55,6 +85,8 @@ func errno(err error) api.Errno {
 		return api.ErrDocument
 	case errors.Is(err, errConflict):
 		return api.ErrConflict
+	case errors.As(err, &noEvent):
+		return api.ErrEvent
 	case errors.Is(err, errUnknown):
 		return api.ErrUnknown
 	default:

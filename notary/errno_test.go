@@ -19,7 +19,7 @@ func TestErrnoFindsWhatIsWrapped(t *testing.T) {
 	for _, c := range []struct {
 		err  error
 		want api.Errno
-	}{{errLong, api.ErrLong}, {fault, api.ErrJSON}, {&value.Fault{Cause: errors.New("x")}, api.ErrJSON}, {errObject, api.ErrObject}, {&documentFault{errKind}, api.ErrDocument}, {errSignature, api.ErrSignature}, {&memberFault{"a", errSignature}, api.ErrSignature}, {errConflict, api.ErrConflict}, {&memberFault{"a", errConflict}, api.ErrConflict}, {errUnknown, api.ErrUnknown}} {
+	}{{errLong, api.ErrLong}, {fault, api.ErrJSON}, {&value.Fault{Cause: errors.New("x")}, api.ErrJSON}, {errObject, api.ErrObject}, {&documentFault{errKind}, api.ErrDocument}, {errSignature, api.ErrSignature}, {&memberFault{"a", errSignature}, api.ErrSignature}, {errConflict, api.ErrConflict}, {&memberFault{"a", errConflict}, api.ErrConflict}, {errUnknown, api.ErrUnknown}, {&eventFault{&memberFault{"ts", errBelow}}, api.ErrEvent}, {&serverFault{"s", errSignature}, api.ErrSignature}, {&serverFault{"s", errUnknown}, api.ErrUnknown}} {
 		if got := errno(c.err); got != c.want {
 			t.Errorf("errno(%v) = %d, want %d", c.err, got, c.want)
 		}
@@ -29,6 +29,17 @@ func TestErrnoFindsWhatIsWrapped(t *testing.T) {
 	}
 	if got := errno(nil); got != api.OK {
 		t.Errorf("errno(nil) = %d", got)
+	}
+}
+
+func TestOutcomeTellsTheServer(t *testing.T) {
+	for _, c := range []struct {
+		err  error
+		want api.Outcome
+	}{{nil, api.Outcome{}}, {errLong, api.Outcome{Code: api.ErrLong}}, {&eventFault{errName}, api.Outcome{Code: api.ErrEvent}}, {&serverFault{"s", errUnknown}, api.Outcome{Code: api.ErrUnknown, Server: "s"}}, {wrapped{&serverFault{"t", wrapped{errSignature}}}, api.Outcome{Code: api.ErrSignature, Server: "t"}}} {
+		if got := outcome(c.err); got != c.want {
+			t.Errorf("outcome(%v) = %+v, want %+v", c.err, got, c.want)
+		}
 	}
 }
 

@@ -18,13 +18,14 @@ type knownServer struct {
 	last string
 }
 
-// known is what is known of all servers, by their names.
+// known is what is known of all servers, by their names. In vain: the last moment at which a server was asked for without success.
 type known struct {
 	servers map[string]*knownServer
+	inVain  map[string]int64
 }
 
 func newKnown() known {
-	return known{servers: map[string]*knownServer{}}
+	return known{servers: map[string]*knownServer{}, inVain: map[string]int64{}}
 }
 
 // takeIn takes a document in whole, or nothing of it; text is what it was read from.
@@ -63,6 +64,40 @@ func (k *known) lastDocument(server string) (string, error) {
 		return "", errUnknown
 	}
 	return s.last, nil
+}
+
+// wants tells whether a claim shows strings, but none under a key that may have signed at its moment.
+func (k *known) wants(c claim) bool {
+	for _, s := range c.signatures {
+		if _, ok := k.keyAt(c.server, s.id, c.ts); ok {
+			return false
+		}
+	}
+	return len(c.signatures) > 0
+}
+
+// check is satisfied by one right string, whatever stands beside it.
+func (k *known) check(c claim) error {
+	if k.wants(c) {
+		return &serverFault{c.server, errUnknown}
+	}
+	for _, s := range c.signatures {
+		if key, ok := k.keyAt(c.server, s.id, c.ts); ok && s.text == Seal(key, c.message) {
+			return nil
+		}
+	}
+	return &serverFault{c.server, errSignature}
+}
+
+// askedInVain may forget the moment before: the server is asked for only when that one is long past, so that the new one is later.
+func (k *known) askedInVain(server string, now int64) {
+	k.inVain[server] = now
+}
+
+// isTooSoon counts what has passed without a sign: between the ends of int64 lies more than an int64 holds.
+func (k *known) isTooSoon(server string, now int64) bool {
+	moment, there := k.inVain[server]
+	return there && (moment > now || uint64(now)-uint64(moment) < api.Wait)
 }
 
 // checkConflict holds a key's name to its first key for good: also when that key may sign no more.

@@ -109,7 +109,7 @@ func oracleString(text string) string {
 	return `"` + out.String() + `"`
 }
 
-// checkText holds every call of a text against the oracle (P1, P3, P4, P5, P7).
+// checkText holds every call of a text against the oracle (P1, P3, P4, P5, P7, P12).
 func checkText(t *testing.T, text string) {
 	t.Helper()
 	want, code := oracle(text)
@@ -136,6 +136,7 @@ func checkText(t *testing.T, text string) {
 		wantSigned(t, signed, "s", "k", "x", signed, api.OK)
 	}
 	checkRead(t, text)
+	checkVerify(t, text)
 }
 
 func seeds() []string {
