@@ -2,6 +2,7 @@ package notary
 
 import (
 	"math"
+	"sync"
 
 	"notary/api"
 )
@@ -19,17 +20,21 @@ type knownServer struct {
 }
 
 // known is what is known of all servers, by their names. In vain: the last moment at which a server was asked for without success.
+// The lock is there for servers that are asked for at once: they share the maps, though each has a place of its own in them.
 type known struct {
+	lock    sync.Mutex
 	servers map[string]*knownServer
 	inVain  map[string]int64
 }
 
-func newKnown() known {
-	return known{servers: map[string]*knownServer{}, inVain: map[string]int64{}}
+func newKnown() *known {
+	return &known{servers: map[string]*knownServer{}, inVain: map[string]int64{}}
 }
 
 // takeIn takes a document in whole, or nothing of it; text is what it was read from.
 func (k *known) takeIn(document api.Document, text string, now int64) error {
+	k.lock.Lock()
+	defer k.lock.Unlock()
 	server, there := k.servers[document.Server]
 	if !there {
 		server = &knownServer{keys: map[string]knownKey{}}
@@ -47,6 +52,8 @@ func (k *known) takeIn(document api.Document, text string, now int64) error {
 
 // keyAt is the key of that name, if it may have signed at that moment.
 func (k *known) keyAt(server, id string, at int64) (string, bool) {
+	k.lock.Lock()
+	defer k.lock.Unlock()
 	s, there := k.servers[server]
 	if !there {
 		return "", false
@@ -59,6 +66,8 @@ func (k *known) keyAt(server, id string, at int64) (string, bool) {
 }
 
 func (k *known) lastDocument(server string) (string, error) {
+	k.lock.Lock()
+	defer k.lock.Unlock()
 	s, there := k.servers[server]
 	if !there {
 		return "", errUnknown
@@ -66,7 +75,7 @@ func (k *known) lastDocument(server string) (string, error) {
 	return s.last, nil
 }
 
-// wants tells whether a claim shows strings, but none under a key that may have signed at its moment.
+// wants tells whether a claim shows strings, but none under a key that may have signed at its moment. It locks for one key after the other: what is known of a key is never taken back.
 func (k *known) wants(c claim) bool {
 	for _, s := range c.signatures {
 		if _, ok := k.keyAt(c.server, s.id, c.ts); ok {
@@ -91,11 +100,15 @@ func (k *known) check(c claim) error {
 
 // askedInVain may forget the moment before: the server is asked for only when that one is long past, so that the new one is later.
 func (k *known) askedInVain(server string, now int64) {
+	k.lock.Lock()
+	defer k.lock.Unlock()
 	k.inVain[server] = now
 }
 
 // isTooSoon counts what has passed without a sign: between the ends of int64 lies more than an int64 holds.
 func (k *known) isTooSoon(server string, now int64) bool {
+	k.lock.Lock()
+	defer k.lock.Unlock()
 	moment, there := k.inVain[server]
 	return there && (moment > now || uint64(now)-uint64(moment) < api.Wait)
 }

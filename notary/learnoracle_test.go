@@ -112,6 +112,7 @@ func (h history) compare(t *testing.T, n *Notary, random *rand.Rand) {
 }
 
 func TestRandomLearningAsTheHistoryTells(t *testing.T) {
+	t.Parallel()
 	random := rand.New(rand.NewPCG(7, 8))
 	var codes [9]int
 	for range 300 {

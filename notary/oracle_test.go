@@ -160,6 +160,7 @@ func mutate(random *rand.Rand, text string) string {
 }
 
 func TestMutatedTextsAsTheOracleTells(t *testing.T) {
+	t.Parallel()
 	random := rand.New(rand.NewPCG(1, 2))
 	texts := seeds()
 	for range 60000 {
@@ -211,6 +212,7 @@ func messyString(random *rand.Rand) string {
 }
 
 func TestMessyTextsAsTheOracleTells(t *testing.T) {
+	t.Parallel()
 	random := rand.New(rand.NewPCG(3, 4))
 	good := 0
 	for range 20000 {

@@ -163,6 +163,7 @@ func (d documents) signed(text string) string {
 }
 
 func TestRandomDocumentsAsTheOracleTells(t *testing.T) {
+	t.Parallel()
 	random := rand.New(rand.NewPCG(5, 6))
 	var codes [9]int
 	for i := range 30000 {

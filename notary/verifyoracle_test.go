@@ -64,7 +64,7 @@ func (w *witness) verify(text string, now int64, replies []api.Reply) (api.Outco
 	for _, server := range servers {
 		e := w.signed(text, server, ts, signatures)
 		if e == api.ErrUnknown && !w.waits(server, now) {
-			asked += w.ask(text, server, ts, signatures, now, replies)
+			asked += w.ask(server, now, replies, func() bool { return w.signed(text, server, ts, signatures) != api.ErrUnknown })
 			e = w.signed(text, server, ts, signatures)
 		}
 		if e != api.OK {
@@ -101,7 +101,7 @@ func (w *witness) waits(server string, now int64) bool {
 	})
 }
 
-func (w *witness) ask(text, server string, ts int64, signatures map[string]any, now int64, replies []api.Reply) int {
+func (w *witness) ask(server string, now int64, replies []api.Reply, enough func() bool) int {
 	asked := 0
 	for i, source := range append([]string{server}, w.sources...) {
 		if i > 0 && source == server {
@@ -116,7 +116,7 @@ func (w *witness) ask(text, server string, ts int64, signatures map[string]any, 
 		if e != api.OK || document.Server != server || w.learn(replies[first].Text, now) != api.OK {
 			continue
 		}
-		if w.signed(text, server, ts, signatures) != api.ErrUnknown {
+		if enough() {
 			return asked
 		}
 	}
@@ -222,6 +222,7 @@ func (v events) now(before int64) int64 {
 }
 
 func TestRandomEventsAsTheWitnessTells(t *testing.T) {
+	t.Parallel()
 	v := events{rand.New(rand.NewPCG(9, 10))}
 	var codes, askings [20]int
 	for range 600 {
